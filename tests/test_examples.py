@@ -1,0 +1,52 @@
+"""The examples of the document, and of the README, that are due so far."""
+
+import doctest
+import pathlib
+import unittest
+
+from fewheld.books import Book
+from fewheld.errors import InvalidLetters, InvalidSet
+from fewheld.rows import number_of, row_at, rows
+from tests.helpers import Checks
+
+README = pathlib.Path(__file__).parent.parent / "README.md"
+
+
+def five():
+    """The book that the document calls five."""
+    return Book("ab", 6, [0, 1], [5], [(0, "a", 2), (0, "a", 3), (0, "b", 4), (1, "a", 4), (1, "b", 2), (1, "b", 3),
+                                       (2, "a", 5), (3, "b", 5), (4, "a", 5), (4, "b", 5)])
+
+
+class Examples(Checks):
+    def test_rows(self):
+        self.assertEqual(repr([number_of("ab", "ba"), row_at("ab", 5), list(rows("ab", 1))]),
+                         "[5, 'ba', ['', 'a', 'b']]")
+
+    def test_books_put_together(self):
+        one = Book("a", 1, [0], [0], [(0, "a", 0)])
+        other = Book("a", 2, [0], [1], [(0, "a", 1)])
+        self.assertEqual(repr([one | other, one & other, ~other]),
+                         "[Book('a', 3, (0, 1), (0, 2), [(0, 'a', 0), (1, 'a', 2)]), "
+                         "Book('a', 2, (0,), (1,), [(0, 'a', 1)]), Book('a', 2, (1,), (0,), [(1, 'a', 0)])]")
+
+    def test_what_comes(self):
+        book = five()
+        self.assertEqual(repr([book("a"), "ab" in book, "a" in book, list(book.readings("ab")), book.coming()]),
+                         "[(2, 3, 4), True, False, [(0, 3, 5), (1, 4, 5)], "
+                         "[('', (0, 1)), ('a', (2, 3, 4)), ('aa', (5,)), ('aaa', ())]]")
+
+    def test_wrong_letters(self):
+        self.check_raises(InvalidLetters, {"value": "ba"}, Book, "ba", 1)
+
+    def test_wrong_set(self):
+        self.check_raises(InvalidSet, {"value": [0, 6]}, five().comes, [0, 6], "a")
+
+    def test_readme(self):
+        tried = doctest.testfile(str(README), module_relative=False, optionflags=doctest.IGNORE_EXCEPTION_DETAIL)
+        self.assertGreater(tried.attempted, 5)
+        self.assertEqual(tried.failed, 0)
+
+
+if __name__ == "__main__":
+    unittest.main()

@@ -1,0 +1,164 @@
+"""The package keeps to the plain subset of Python, as far as a look at its files can tell."""
+
+import ast
+import builtins
+import pathlib
+import re
+import unittest
+
+PACKAGE = pathlib.Path(__file__).parent.parent / "fewheld"
+BUILTINS = set("""len range enumerate zip min max sum abs sorted reversed int str bool bytes list tuple dict set
+    isinstance ord repr any all divmod ValueError LookupError RuntimeError ArithmeticError KeyError TypeError
+    NotImplemented map iter next property staticmethod""".split())
+BARRED_NODES = (ast.Lambda, ast.GeneratorExp, ast.AugAssign, ast.AnnAssign, ast.Global, ast.AsyncFunctionDef, ast.Await,
+                ast.NamedExpr, ast.Div, ast.MatMult)
+BARRED_WORDS = """type typing enum Enum IntEnum StrEnum Flag IntFlag Generic Protocol ABC ABCMeta namedtuple NamedTuple
+    TypedDict abstractmethod mro elements open input law exec eval getattr setattr hasattr vars globals locals super
+    id dir gc os sys exit quit help format""".split()
+DOUBLE = set("""__init__ __eq__ __repr__ __str__ __len__ __enter__ __exit__ __call__ __iter__ __add__ __sub__ __or__
+    __and__ __invert__ __rrshift__ __lshift__ __contains__ __getitem__ __setitem__ __iadd__ __isub__""".split())
+METHODS = set("append clear copy count endswith extend find get index insert items join keys pop replace setdefault "
+              "split startswith strip update values isdigit".split())
+INTERFACE = {
+    "rows": ["is_letters", "is_row", "is_ahead", "rows", "many_rows", "row_at", "number_of"],
+    "books": ["Book"],
+}
+BOOK = """letters size starts ends steps comes reads runs readings with_starts with_ends live useful sets coming
+    of_rooms __len__ __contains__ __call__ __eq__ __repr__ __add__ __sub__ __or__ __and__ __invert__ __rrshift__
+    __lshift__""".split()
+# An interactive session, such as a doctest, leaves its last value in `_`.
+ALL_BUILTINS = set(dir(builtins)) - {"_"}
+FILES = sorted(PACKAGE.glob("*.py"))
+TREES = {path.name: ast.parse(path.read_text(encoding="ascii")) for path in FILES}
+
+
+def nodes(kind):
+    """All nodes of a kind, with the names of their files."""
+    return [(name, node) for name, tree in TREES.items() for node in ast.walk(tree) if isinstance(node, kind)]
+
+
+def functions():
+    """All functions and methods."""
+    return nodes(ast.FunctionDef)
+
+
+def docstrings(tree):
+    """The nodes of the docstrings of a file."""
+    found = []
+    for node in ast.walk(tree):
+        if isinstance(node, (ast.Module, ast.ClassDef, ast.FunctionDef)) and ast.get_docstring(node) is not None:
+            found.append(node.body[0].value)
+    return found
+
+
+class Language(unittest.TestCase):
+    def test_files(self):
+        self.assertIn("__init__.py", TREES)
+        for path in PACKAGE.iterdir():
+            if path.name != "__pycache__":
+                self.assertRegex(path.name, r"^[a-z_]+\.py$")
+        for path in FILES:
+            text = path.read_text(encoding="ascii")
+            self.assertEqual(re.sub("[ -~\n]", "", text), "")
+            lines = text.split("\n")
+            self.assertLess(len(lines), 400)
+            self.assertLessEqual(max(len(line) for line in lines), 120)
+            self.assertNotIn("__builtins__", text)
+
+    def test_functions_are_short(self):
+        for name, node in functions():
+            self.assertLessEqual(node.end_lineno - node.lineno + 1, 40, (name, node.name))
+
+    def test_nodes(self):
+        for name, node in nodes(BARRED_NODES):
+            self.fail(f"{name}, line {node.lineno}: {node.__class__.__name__}")
+        for name, node in nodes(ast.Constant):
+            self.assertNotIsInstance(node.value, float, (name, node.lineno))
+            if isinstance(node.value, str):
+                self.assertNotIn("%", node.value, (name, node.lineno))
+        for name, node in nodes(ast.BinOp):
+            if isinstance(node.op, ast.Pow):
+                self.assertIsInstance(node.right, ast.Constant, (name, node.lineno))
+
+    def test_imports(self):
+        module_names = {path.stem for path in FILES}
+        for name, tree in TREES.items():
+            self.assertFalse([node for node in ast.walk(tree) if isinstance(node, ast.Import)])
+            behind = tree.body[1:]
+            imports = [node for node in behind if isinstance(node, ast.ImportFrom)]
+            self.assertEqual(behind[:len(imports)], imports, name)
+            for node in imports:
+                package, _, module = node.module.partition(".")
+                self.assertEqual((package, node.level), ("fewheld", 0), name)
+                self.assertIn(module, module_names)
+                source = TREES[module + ".py"]
+                defined = {made.name for made in source.body if isinstance(made, (ast.FunctionDef, ast.ClassDef))}
+                self.assertLessEqual({alias.name for alias in node.names}, defined)
+                self.assertFalse([alias for alias in node.names if alias.asname])
+
+    def test_each_import_is_used_and_not_bound_again(self):
+        for name, tree in TREES.items():
+            lines = [node for node in tree.body if isinstance(node, ast.ImportFrom)]
+            imported = {alias.name for node in lines for alias in node.names}
+            words = [node for node in ast.walk(tree) if isinstance(node, ast.Name)]
+            used = {node.id for node in words}
+            bound = {node.id for node in words if isinstance(node.ctx, ast.Store)}
+            bound |= {node.arg for node in ast.walk(tree) if isinstance(node, ast.arg)}
+            self.assertLessEqual(imported, used, name)
+            self.assertFalse(imported & bound, name)
+            self.assertFalse(bound & ALL_BUILTINS, name)
+
+    def test_builtins(self):
+        for name, node in nodes(ast.Name):
+            if node.id in ALL_BUILTINS:
+                self.assertIn(node.id, BUILTINS, (name, node.lineno))
+
+    def test_names(self):
+        for name, tree in TREES.items():
+            found = {node.id for node in ast.walk(tree) if isinstance(node, ast.Name)}
+            found |= {node.attr for node in ast.walk(tree) if isinstance(node, ast.Attribute)}
+            found |= {node.arg for node in ast.walk(tree) if isinstance(node, ast.arg)}
+            found |= {node.name for node in ast.walk(tree) if isinstance(node, (ast.FunctionDef, ast.ClassDef))}
+            self.assertFalse(found & set(BARRED_WORDS), name)
+            for word in found:
+                if word.startswith("__"):
+                    self.assertIn(word, DOUBLE, name)
+            told = docstrings(tree)
+            for node in ast.walk(tree):
+                if isinstance(node, ast.Constant) and isinstance(node.value, str) and node not in told:
+                    self.assertFalse(set(re.findall(r"\w+", node.value)) & set(BARRED_WORDS), name)
+
+    def test_methods_that_are_called(self):
+        own = {node.name for _, node in functions()}
+        for name, node in nodes(ast.Call):
+            if isinstance(node.func, ast.Attribute):
+                self.assertIn(node.func.attr, METHODS | own, (name, node.lineno))
+
+    def test_generators_have_names_of_their_own(self):
+        names = [node.name for _, node in functions()]
+        for name, node in functions():
+            if any(isinstance(part, (ast.Yield, ast.YieldFrom)) for part in ast.walk(node)):
+                self.assertEqual(names.count(node.name), 1, (name, node.name))
+
+    def test_sets_stand_only_in_sorted(self):
+        inside = [id(node.args[0]) for _, node in nodes(ast.Call)
+                  if isinstance(node.func, ast.Name) and node.func.id in ("sorted", "len") and node.args]
+        for name, node in nodes((ast.SetComp, ast.Set)):
+            self.assertIn(id(node), inside, (name, node.lineno))
+
+    def test_attributes_are_assigned_to_self_only(self):
+        for name, node in nodes(ast.Assign):
+            for target in node.targets:
+                if isinstance(target, ast.Attribute):
+                    self.assertEqual(target.value.id, "self", (name, node.lineno))
+
+    def test_interface(self):
+        for module, due in INTERFACE.items():
+            body = TREES[module + ".py"].body
+            self.assertLessEqual(set(due), {node.name for node in body if hasattr(node, "name")})
+        made = [node for _, node in nodes(ast.ClassDef) if node.name == "Book"]
+        self.assertLessEqual(set(BOOK), {node.name for node in made[0].body if isinstance(node, ast.FunctionDef)})
+
+
+if __name__ == "__main__":
+    unittest.main()
