@@ -198,6 +198,19 @@ class Wrong(Checks):
             self.check_raises(InvalidStates, {"position": at}, Book, "ab", 2, some)
             self.check_raises(InvalidStates, {"position": at}, Book, "ab", 2, [], some)
 
+    def test_the_first_wrong_parameter_is_told(self):
+        names = ["letters", "size", "starts", "ends", "steps"]
+        right = ["ab", 2, [0], [1], [(0, "a", 1)]]
+        wrong = ["ba", True, [0, 2], [1, 0, 1], [(1, "b", 1), (0, "c", 1)]]
+        due = [(InvalidLetters, {"value": "ba"}), (InvalidSize, {"value": True}), (InvalidStates, {"position": 1}),
+               (InvalidStates, {"position": 2}), (InvalidSteps, {"position": 1})]
+        for which in itertools.product([False, True], repeat=5):
+            if any(which):
+                values = [wrong[at] if which[at] else right[at] for at in range(5)]
+                error, told = due[which.index(True)]
+                self.check_raises(error, told, Book, *values)
+                self.check_raises(error, told, Book, **dict(reversed(list(zip(names, values)))))
+
     def test_starts_come_ahead_of_ends_and_these_ahead_of_steps(self):
         self.check_raises(InvalidStates, {"position": 0}, Book, "ab", 2, [2], [0, 2], None)
         self.check_raises(InvalidStates, {"position": 1}, Book, "ab", 2, [1], [0, 2], None)

