@@ -2,6 +2,7 @@
 
 from fewheld.errors import InvalidBook, InvalidSize, OtherLetters, TooMany
 from fewheld.rows import check_letters, check_row, is_over
+from fewheld.search import found_along
 from fewheld.states import all_sets, ascending, check_rooms, check_set, check_states, check_step, check_steps
 from fewheld.values import is_integer
 
@@ -167,18 +168,7 @@ class Book:
 
     def coming(self):
         """The tuples (first row, set) of all sets that come in the book, in the order of the rows."""
-        found = [("", self._starts)]
-        seen = {self._starts: True}
-        at = 0
-        while at < len(found):
-            row, states = found[at]
-            for letter in self._letters:
-                onward = self._onward(states, letter)
-                if onward not in seen:
-                    seen[onward] = True
-                    found.append((row + letter, onward))
-            at = at + 1
-        return found
+        return found_along(self._letters, self._starts, lambda states, letter: self._onward(states, letter))
 
     @staticmethod
     def of_rooms(letters, rooms):

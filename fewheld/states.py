@@ -1,6 +1,7 @@
 """States, sets of them, steps and rooms: the parts that books are made of."""
 
-from fewheld.errors import InvalidRooms, InvalidSet, InvalidStates, InvalidStep, InvalidSteps
+from fewheld.errors import (InvalidLetter, InvalidOrder, InvalidRooms, InvalidSet, InvalidStates, InvalidStep,
+                            InvalidSteps)
 from fewheld.values import is_integer, is_list
 
 
@@ -66,10 +67,32 @@ def wrong_state_at(size, values):
     return first_wrong(values, [is_state(size, value) for value in values])
 
 
+def is_set(size, value):
+    """Whether the value is a list of different states."""
+    return is_list(value) and wrong_state_at(size, value) is None
+
+
+def is_order(size, value):
+    """Whether the value is a list of all states, each once."""
+    return is_set(size, value) and len(value) == size
+
+
 def check_set(size, some):
     """Raise InvalidSet unless this is a list of different states."""
-    if not is_list(some) or wrong_state_at(size, some) is not None:
+    if not is_set(size, some):
         raise InvalidSet(some)
+
+
+def check_order(size, order):
+    """Raise InvalidOrder unless this is a list of all states, each once."""
+    if not is_order(size, order):
+        raise InvalidOrder(order)
+
+
+def check_letter(letters, letter):
+    """Raise InvalidLetter unless this is one of the letters."""
+    if not is_letter(letters, letter):
+        raise InvalidLetter(letter)
 
 
 def check_states(size, values):

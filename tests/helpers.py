@@ -7,6 +7,7 @@ import unittest
 from fractions import Fraction
 
 from fewheld.books import Book
+from fewheld.readers import ListRule, Plan
 from fewheld.rows import row_at
 
 
@@ -71,6 +72,13 @@ NO_STEPS = NO_LISTS + [
 ] + [(value, "a", 1) for value in NO_STATES] + [(0, "a", value) for value in NO_STATES] + [
     (0, value, 1) for value in NO_STRINGS + ["", "ab", "c", "A", "aa", "\u00e4"]
 ]
+NO_BOOKS = [None, True, False, 0, 1, 1.5, "", "ab", b"a", (), [], {}, set(), {1}, Own(), Alike(), Book, [SOME_BOOK],
+            (SOME_BOOK,), repr(SOME_BOOK), (0, "a", 1), Touchy(), ...]
+# Letters and orders are those of a book of two states over "ab".
+NO_SINGLE_LETTERS = NO_STRINGS + ["", "ab", "aa", "c", "A", "B", " ", "-", "\u00e4", "\ud800"]
+NO_RULES = NO_BOOKS + [SOME_BOOK, ListRule, Plan, [0, 1], ((0, 1), 1), "width 1 order 0 1", {((0,), "a"): [1]},
+                       [ListRule([0, 1], 1)]]
+NO_ORDERS = NO_SETS + [[], (), [0], [1], (0,), [0, 1, 1], [1, 2], [0, 1, 2], (2, 0, 1)]
 
 
 class Checks(unittest.TestCase):
@@ -81,6 +89,24 @@ class Checks(unittest.TestCase):
         with self.assertRaises(error) as caught:
             call(*values, **named)
         self.check_error(caught.exception, error, told)
+
+    def check_parameters(self, call, *parameters):
+        """The call raises the error of the first wrong parameter, each told as (name, right, wrong ones, error)."""
+        names = [name for name, _, _, _ in parameters]
+        rights = [right for _, right, _, _ in parameters]
+        call(*rights)
+        for at, (_, _, wrongs, error) in enumerate(parameters):
+            for wrong in wrongs:
+                values = rights[:at] + [wrong] + rights[at + 1:]
+                self.check_raises(error, {"value": wrong}, call, *values)
+                self.check_raises(error, {"value": wrong}, call, **dict(reversed(list(zip(names, values)))))
+        for which in itertools.product([False, True], repeat=len(parameters)):
+            values = [wrongs[-1 - at] if is_wrong else right
+                      for at, (is_wrong, (_, right, wrongs, _)) in enumerate(zip(which, parameters))]
+            if any(which):
+                at = which.index(True)
+                self.check_raises(parameters[at][3], {"value": values[at]}, call, *values)
+                self.check_raises(parameters[at][3], {"value": values[at]}, call, **dict(zip(names, values)))
 
     def check_error(self, raised, error, told):
         """The raised error is of just this class, and keeps what is told."""
@@ -154,6 +180,77 @@ def comes_by_hand(book, some, row):
     for letter in row:
         come = {q for p, a, q in book.steps() if p in come and a == letter}
     return tuple(sorted(come))
+
+
+def random_plan(source, letters, size):
+    """A plan with sets of so many states and with these letters; it lacks some of them."""
+    every = [tuple(p for p in range(size) if at >> p & 1) for at in range(1 << size)]
+    table = {(states, a): random_set(source, size) for states in every for a in letters if source.random() < 0.8}
+    return Plan(random_set(source, size), table)
+
+
+def random_rules(source, book):
+    """A list rule and a plan that meet the book."""
+    order = source.sample(range(book.size), book.size)
+    return [ListRule(order, source.randint(0, book.size)), random_plan(source, book.letters, book.size)]
+
+
+def begun_by_hand(book, rule):
+    """What the rule holds of the book's starts."""
+    if isinstance(rule, ListRule):
+        return tuple(sorted([p for p in rule.order if p in book.starts][:rule.width]))
+    return tuple(p for p in book.starts if p in rule.begin)
+
+
+def held_by_hand(book, rule, some, letter):
+    """What the rule holds behind the letter."""
+    come = comes_by_hand(book, some, letter)
+    if isinstance(rule, ListRule):
+        return tuple(sorted([p for p in rule.order if p in come][:rule.width]))
+    return tuple(p for p in come if p in rule.table().get((tuple(sorted(some)), letter), []))
+
+
+def found_by_hand(letters, begin, onward):
+    """The tuples (first row, place) for all that comes of the beginning, found level by level."""
+    found = {begin: ""}
+    level = [begin]
+    while level:
+        longer = sorted((found[place] + letter, at, letter) for at, place in enumerate(level) for letter in letters)
+        behind = []
+        for row, at, letter in longer:
+            place = onward(level[at], letter)
+            if place not in found:
+                found[place] = row
+                behind.append(place)
+        level = behind
+    return [(row, place) for place, row in found.items()]
+
+
+def together_by_hand(books, sets):
+    """The tuples (first row, sets) of all sets that come of these, each in its own book, by the same row."""
+    leads = [{(p, a): {q for x, y, q in book.steps() if (x, y) == (p, a)} for p in range(book.size)
+              for a in book.letters} for book in books]
+
+    def onward(place, letter):
+        return tuple(frozenset().union(*[lead[(p, letter)] for p in some]) for lead, some in zip(leads, place))
+
+    return found_by_hand(books[0].letters, tuple(frozenset(some) for some in sets), onward)
+
+
+def ending_by_hand(books, sets):
+    """For all that comes of the sets together: the first row, and for each set whether there is an end in it."""
+    return [(row, tuple(bool(some & set(book.ends)) for book, some in zip(books, place)))
+            for row, place in together_by_hand(books, sets)]
+
+
+def first_by_hand(found, is_right):
+    """The first row of these tuples (row, value) with a right value, or None."""
+    return next((row for row, value in found if is_right(*value)), None)
+
+
+def ring(letters, size, ends, start=0):
+    """A book whose states stand in a ring; each letter leads to the next one."""
+    return Book(letters, size, [start], ends, [(p, a, (p + 1) % size) for p in range(size) for a in letters])
 
 
 def rows_to_try(letters):

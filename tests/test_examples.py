@@ -4,8 +4,11 @@ import doctest
 import pathlib
 import unittest
 
+from fewheld.alike import are_alike, cover_width, covers, missing, parting, rooms
 from fewheld.books import Book
+from fewheld.counts import at_once, degree, greatest, many_readings, spread
 from fewheld.errors import InvalidLetters, InvalidSet
+from fewheld.readers import ListRule, harmless_widths, lost_row, walk
 from fewheld.rows import number_of, row_at, rows
 from tests.helpers import Checks
 
@@ -16,6 +19,12 @@ def five():
     """The book that the document calls five."""
     return Book("ab", 6, [0, 1], [5], [(0, "a", 2), (0, "a", 3), (0, "b", 4), (1, "a", 4), (1, "b", 2), (1, "b", 3),
                                        (2, "a", 5), (3, "b", 5), (4, "a", 5), (4, "b", 5)])
+
+
+def wide():
+    """The book that the document calls wide."""
+    return Book("ab", 6, [0, 1], [5], [(0, "a", 2), (1, "a", 3), (1, "a", 4), (2, "a", 5), (2, "b", 5), (3, "a", 5),
+                                       (4, "a", 5)])
 
 
 class Examples(Checks):
@@ -41,6 +50,33 @@ class Examples(Checks):
 
     def test_wrong_set(self):
         self.check_raises(InvalidSet, {"value": [0, 6]}, five().comes, [0, 6], "a")
+
+    def test_alike(self):
+        book = five()
+        self.assertEqual(repr([are_alike(book, [0], [1]), parting(book, [2], [3]), missing(book, [4], [2]),
+                               covers(book, [2, 3, 4])]),
+                         "[True, 'a', 'b', [(4,), (2, 3)]]")
+        self.assertEqual(repr(cover_width(book)), "(1, '')")
+
+    def test_rooms(self):
+        self.assertEqual(repr(rooms(five())), "[(False, (1, 1)), (False, (2, 2)), (True, (3, 3)), (False, (3, 3))]")
+
+    def test_counts(self):
+        third = Book("ab", 4, [0], [3], [(0, "a", 0), (0, "a", 1), (0, "b", 0), (1, "a", 2), (1, "b", 2), (2, "a", 3),
+                                         (2, "b", 3)])
+        two = Book("a", 2, [0], [0, 1], [(0, "a", 0), (0, "a", 1), (1, "a", 0), (1, "a", 1)])
+        rise = Book("a", 2, [0], [1], [(0, "a", 0), (0, "a", 1), (1, "a", 1)])
+        self.assertEqual(repr([greatest(third), at_once(third), many_readings(two, "aaa"), degree(two), degree(rise),
+                               spread(rise, 3)]),
+                         "[(1, 'aaa'), (4, 'aaa'), 8, None, 1, {3: 1}]")
+
+    def test_list_rules(self):
+        order = [0, 1, 3, 4, 2, 5]
+        self.assertEqual(repr([harmless_widths(wide(), order), lost_row(wide(), ListRule(order, 2))]),
+                         "[[1, 3, 4, 5, 6], 'ab']")
+        self.assertEqual(repr(walk(wide(), ListRule(order, 2))),
+                         "[('', (0, 1), (0, 1)), ('a', (2, 3, 4), (3, 4)), ('b', (), ()), ('aa', (5,), (5,)), "
+                         "('ab', (5,), ())]")
 
     def test_readme(self):
         tried = doctest.testfile(str(README), module_relative=False, optionflags=doctest.IGNORE_EXCEPTION_DETAIL)

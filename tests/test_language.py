@@ -9,7 +9,7 @@ import unittest
 PACKAGE = pathlib.Path(__file__).parent.parent / "fewheld"
 BUILTINS = set("""len range enumerate zip min max sum abs sorted reversed int str bool bytes list tuple dict set
     isinstance ord repr any all divmod ValueError LookupError RuntimeError ArithmeticError KeyError TypeError
-    NotImplemented map iter next property staticmethod""".split())
+    NotImplementedError NotImplemented map iter next property staticmethod""".split())
 # Generator expressions and += are allowed here and there only, where no
 # operator of a class can come near; the package does without them.
 BARRED_NODES = (ast.GeneratorExp, ast.AugAssign, ast.Global, ast.AsyncFunctionDef, ast.Await, ast.Div, ast.MatMult)
@@ -19,14 +19,34 @@ BARRED_WORDS = """type typing enum Enum IntEnum StrEnum Flag IntFlag Generic Pro
 DOUBLE = set("""__init__ __eq__ __repr__ __str__ __len__ __enter__ __exit__ __call__ __iter__ __add__ __sub__ __or__
     __and__ __invert__ __rrshift__ __lshift__ __contains__ __getitem__ __setitem__ __iadd__ __isub__""".split())
 METHODS = set("append clear copy count endswith extend find get index insert items join keys pop replace setdefault "
-              "split startswith strip update values isdigit".split())
+              "split startswith strip update values isdigit bit_length".split())
+LIBRARY = {"math": {"gcd"}}
+# For each function its parameters.
 INTERFACE = {
-    "rows": ["is_letters", "is_row", "is_ahead", "rows", "many_rows", "row_at", "number_of"],
-    "books": ["Book"],
+    "rows": "is_letters(value) is_row(letters,value) is_ahead(letters,row,other) rows(letters,most) "
+            "many_rows(letters,most) row_at(letters,number) number_of(letters,row)",
+    "books": "",
+    "alike": "are_alike(book,one,other) is_within(book,one,other) parting(book,one,other) missing(book,one,other) "
+             "covers(book,some) fewest(book,some) cover_width(book) rooms(book) books_alike(one,other) "
+             "books_within(one,other) books_parting(one,other) books_missing(one,other)",
+    "counts": "many_readings(book,row) spread(book,length) doubling(book) degree(book) chain(book,rises) "
+              "is_doubling(book,value) is_chain(book,value) greatest(book) at_once(book) twice_read(book) "
+              "same_numbers(one,other)",
+    "readers": "walk(book,rule) lost_row(book,rule) most_held(book,rule) harmless_widths(book,order) "
+               "lost_alone(book,one,other)",
 }
-BOOK = """letters size starts ends steps comes reads runs readings with_starts with_ends live useful sets coming
-    of_rooms __len__ __contains__ __call__ __eq__ __repr__ __add__ __sub__ __or__ __and__ __invert__ __rrshift__
-    __lshift__""".split()
+# For each class its file and its methods.
+CLASSES = {
+    "Book": ("books", """letters size starts ends steps comes reads runs readings with_starts with_ends live useful sets
+        coming of_rooms __init__ __len__ __contains__ __call__ __eq__ __repr__ __add__ __sub__ __or__ __and__ __invert__
+        __rrshift__ __lshift__"""),
+    "Likeness": ("alike", "book __init__ __len__ __getitem__ __call__ __eq__ __iter__"),
+    "Rule": ("readers", "begins holds"),
+    "ListRule": ("readers", "begins holds order width __init__ __eq__ __repr__ __call__"),
+    "Plan": ("readers", "begins holds begin table __init__ __eq__"),
+    "Reader": ("readers", """book row held whole at_end rule set_rule missing copy trial tried_by __init__ __len__
+        __iadd__ __isub__ __enter__ __exit__"""),
+}
 # An interactive session, such as a doctest, leaves its last value in `_`.
 ALL_BUILTINS = set(dir(builtins)) - {"_"}
 FILES = sorted(PACKAGE.glob("*.py"))
@@ -41,6 +61,12 @@ def nodes(kind):
 def functions():
     """All functions and methods."""
     return nodes(ast.FunctionDef)
+
+
+def defined_in(tree):
+    """The names of what a file defines at its module level."""
+    found = {made.name for made in tree.body if isinstance(made, (ast.FunctionDef, ast.ClassDef))}
+    return found | {made.targets[0].id for made in tree.body if isinstance(made, ast.Assign)}
 
 
 def docstrings(tree):
@@ -89,13 +115,31 @@ class Language(unittest.TestCase):
             imports = [node for node in behind if isinstance(node, ast.ImportFrom)]
             self.assertEqual(behind[:len(imports)], imports, name)
             for node in imports:
+                names = {alias.name for alias in node.names}
+                self.assertFalse([alias for alias in node.names if alias.asname])
+                if node.module in LIBRARY:
+                    self.assertLessEqual(names, LIBRARY[node.module])
+                    continue
                 package, _, module = node.module.partition(".")
                 self.assertEqual((package, node.level), ("fewheld", 0), name)
                 self.assertIn(module, module_names)
-                source = TREES[module + ".py"]
-                defined = {made.name for made in source.body if isinstance(made, (ast.FunctionDef, ast.ClassDef))}
-                self.assertLessEqual({alias.name for alias in node.names}, defined)
-                self.assertFalse([alias for alias in node.names if alias.asname])
+                self.assertLessEqual(names, defined_in(TREES[module + ".py"]), name)
+
+    def test_no_two_files_import_from_each_other(self):
+        towards = {name[:-3]: {node.module[8:] for node in tree.body
+                               if isinstance(node, ast.ImportFrom) and node.module not in LIBRARY}
+                   for name, tree in TREES.items()}
+        left = set(towards)
+        while left:
+            free = {name for name in left if not towards[name] & left}
+            self.assertTrue(free, left)
+            left -= free
+
+    def test_what_is_taken_from_the_library_is_only_called(self):
+        called = [id(node.func) for _, node in nodes(ast.Call)]
+        for name, node in nodes(ast.Name):
+            if node.id in {"gcd"}:
+                self.assertIn(id(node), called, (name, node.lineno))
 
     def test_each_import_is_used_and_not_bound_again(self):
         for name, tree in TREES.items():
@@ -147,18 +191,47 @@ class Language(unittest.TestCase):
         for name, node in nodes((ast.SetComp, ast.Set)):
             self.assertIn(id(node), inside, (name, node.lineno))
 
-    def test_attributes_are_assigned_to_self_only(self):
+    def test_attributes_are_assigned_through_local_names(self):
         for name, node in nodes(ast.Assign):
             for target in node.targets:
                 if isinstance(target, ast.Attribute):
-                    self.assertEqual(target.value.id, "self", (name, node.lineno))
+                    self.assertIn(target.value.id, ["self", "made", "before"], (name, node.lineno))
 
-    def test_interface(self):
+    def test_properties_and_methods_have_unlike_names(self):
+        found = [(node.name, bool(node.decorator_list)) for _, made in nodes(ast.ClassDef) for node in made.body
+                 if isinstance(node, ast.FunctionDef)]
+        decorated = {name for name, is_decorated in found if is_decorated}
+        plain = {name for name, is_decorated in found if not is_decorated}
+        self.assertFalse(decorated & plain)
+        stored = {node.attr for _, node in nodes(ast.Attribute) if isinstance(node.ctx, ast.Store)}
+        self.assertFalse(stored & (decorated | plain))
+
+    def test_what_an_exit_may_do(self):
+        for name, node in functions():
+            if node.name == "__exit__":
+                for row in node.body:
+                    self.assertIsInstance(row, ast.Assign, (name, row.lineno))
+                    self.assertIsInstance(row.value, ast.Attribute, (name, row.lineno))
+
+    def test_functions_of_the_interface(self):
         for module, due in INTERFACE.items():
-            body = TREES[module + ".py"].body
-            self.assertLessEqual(set(due), {node.name for node in body if hasattr(node, "name")})
-        made = [node for _, node in nodes(ast.ClassDef) if node.name == "Book"]
-        self.assertLessEqual(set(BOOK), {node.name for node in made[0].body if isinstance(node, ast.FunctionDef)})
+            made = {node.name: node for node in TREES[module + ".py"].body if isinstance(node, ast.FunctionDef)}
+            for told in due.split():
+                name, _, parameters = told[:-1].partition("(")
+                self.assertIn(name, made, module)
+                self.assertEqual(",".join(part.arg for part in made[name].args.args), parameters, name)
+
+    def test_classes_of_the_interface(self):
+        for name, (module, due) in CLASSES.items():
+            made = [node for node in TREES[module + ".py"].body if isinstance(node, ast.ClassDef) and node.name == name]
+            self.assertEqual(len(made), 1, name)
+            self.assertLessEqual(set(due.split()), {node.name for node in made[0].body
+                                                    if isinstance(node, ast.FunctionDef)})
+
+    def test_words_that_are_barred_beside_indexed_objects(self):
+        for path in FILES:
+            for word in ["(type)", "Meta", "metaclass="]:
+                self.assertNotIn(word, path.read_text(encoding="ascii"))
 
 
 if __name__ == "__main__":

@@ -4,11 +4,8 @@ import unittest
 
 from fewheld.books import Book
 from fewheld.errors import InvalidBook, InvalidRow, OtherLetters, TooMany
-from tests.helpers import (NO_ROWS, SOME_BOOK, Alike, Checks, Own, full_book, rows_to_try, runs_by_hand, sample_books,
+from tests.helpers import (NO_BOOKS, NO_ROWS, SOME_BOOK, Checks, full_book, rows_to_try, runs_by_hand, sample_books,
                            short_rows)
-
-NO_BOOKS = [None, True, False, 0, 1, 1.5, "", "ab", b"a", (), [], {}, set(), {1}, Own(), Alike(), Book, [SOME_BOOK],
-            (SOME_BOOK,), repr(SOME_BOOK), (0, "a", 1)]
 
 
 def pairs_of_books():
