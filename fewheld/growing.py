@@ -1,4 +1,4 @@
-"""What lets the numbers of readings grow: doublings, rises and chains, in books whose states are all useful."""
+"""What lets the numbers of readings grow: doublings, rises and chains, in books that have useful parts alone."""
 
 from fewheld.books import leads_of
 from fewheld.search import ways_from
@@ -70,7 +70,7 @@ def rise_row(book, ways, start, goal):
                 for high in leads[(here[2], letter)] if goal in ways[high]]
 
     found = ways_from(book.letters, (start, start, goal), onward)
-    return found.get((start, goal, goal), None)
+    return found.get((start, goal, goal))
 
 
 def rises_of(book, ways):
