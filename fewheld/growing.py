@@ -109,23 +109,21 @@ def chain_without_rises(book):
     return ended_chain(book, state_ways(book), begun_chains(book))
 
 
-def chain_of_rises(book, many):
-    """A chain of so many rises in a book without a doubling, or None."""
+def chains_by_rises(book, most):
+    """For each number of rises up to the most: the chains with so many, in a book without a doubling."""
     ways = state_ways(book)
     rises = rises_of(book, ways)
-    chains = begun_chains(book)
-    for _ in range(many):
-        chains = risen(ways, rises, chains)
-    return ended_chain(book, ways, chains)
+    found = [begun_chains(book)]
+    for _ in range(most):
+        found.append(risen(ways, rises, found[-1]))
+    return found
+
+
+def chain_of_rises(book, many):
+    """A chain of so many rises in a book without a doubling, or None."""
+    return ended_chain(book, state_ways(book), chains_by_rises(book, many)[many])
 
 
 def most_rises(book, most):
     """The greatest number of rises, but at most so many, of a chain in a book without a doubling."""
-    ways = state_ways(book)
-    rises = rises_of(book, ways)
-    chains = begun_chains(book)
-    for many in range(most):
-        chains = risen(ways, rises, chains)
-        if not chains:
-            return many
-    return most
+    return max([many for many, chains in enumerate(chains_by_rises(book, most)) if many == 0 or chains])
