@@ -5,7 +5,7 @@ from fewheld.errors import InvalidOrder, InvalidRule, InvalidTable, NothingToTak
 from fewheld.marks import Marks
 from fewheld.rows import ALPHABET, check_row
 from fewheld.search import first_row, found_along, moves_along
-from fewheld.states import ascending, check_letter, check_order, check_set, is_letter, is_order, is_set
+from fewheld.states import ascending, check_letter, check_order, check_set, is_letter, is_order, is_set, is_told_set
 from fewheld.values import check_count
 
 
@@ -263,9 +263,7 @@ def is_key(value):
     if not isinstance(value, tuple) or len(value) != 2:
         return False
     states, letter = value
-    if not isinstance(states, tuple) or not is_set(Book.MOST_STATES, states):
-        return False
-    return states == ascending(Book.MOST_STATES, states) and is_letter(ALPHABET, letter)
+    return is_told_set(Book.MOST_STATES, states) and is_letter(ALPHABET, letter)
 
 
 def plain_table(table):

@@ -1,4 +1,4 @@
-"""All that comes of a beginning, letter by letter, with the rows by which it comes."""
+"""All that comes of a beginning, letter by letter, with the rows by which it comes; the least right number."""
 
 
 def ways_from(letters, begin, leads):
@@ -43,3 +43,16 @@ def first_row(found, is_right):
         if is_right(place):
             return row
     return None
+
+
+def least_right(most, is_right):
+    """The least number that is right; the most is right, and so is each number up to it behind a right one."""
+    low = 0
+    high = most
+    while low < high:
+        middle = (low + high) // 2
+        if is_right(middle):
+            high = middle
+        else:
+            low = middle + 1
+    return low

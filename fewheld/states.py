@@ -72,6 +72,11 @@ def is_set(size, value):
     return is_list(value) and wrong_state_at(size, value) is None
 
 
+def is_told_set(size, value):
+    """Whether the value is a set as it is told: the ascending tuple of its states."""
+    return isinstance(value, tuple) and is_set(size, value) and value == ascending(size, value)
+
+
 def is_order(size, value):
     """Whether the value is a list of all states, each once."""
     return is_set(size, value) and len(value) == size

@@ -9,17 +9,13 @@ from fewheld.books import Book
 from fewheld.errors import InvalidBook, InvalidCount, InvalidSet
 from tests.helpers import (NO_BOOKS, NO_COUNTS, NO_SETS, SOME_BOOK, Checks, Number, ending_by_hand, first_by_hand,
                            full_book, random_book, random_set, ring, sample_books, short_rows)
+from tests.slow import marks_by_hand, sets_of
 
 BOOK = ("book", SOME_BOOK, NO_BOOKS, InvalidBook)
 SOME = ("some", [1, 0], NO_SETS, InvalidSet)
 # States 0 to 2, and 3 to 6, stand in a ring each.
 RINGS = Book("a", 7, [0, 3], [0, 3], [(0, "a", 1), (1, "a", 2), (2, "a", 0),
                                       (3, "a", 4), (4, "a", 5), (5, "a", 6), (6, "a", 3)])
-
-
-def sets_of(book):
-    """All sets of the book, in order."""
-    return [states for many in range(book.size + 1) for states in itertools.combinations(range(book.size), many)]
 
 
 def parting_by_hand(book, one, other):
@@ -30,20 +26,6 @@ def parting_by_hand(book, one, other):
 def missing_by_hand(book, one, other):
     """The first row that the one set reads and the other one does not."""
     return first_by_hand(ending_by_hand([book, book], [one, other]), lambda first, second: first and not second)
-
-
-def marks_by_hand(book):
-    """For each set something that is the same for alike sets, found by parting the sets again and again."""
-    every = sets_of(book)
-    marks = {states: bool(set(states) & set(book.ends)) for states in every}
-    many = 0
-    while many < len(set(marks.values())):
-        many = len(set(marks.values()))
-        longer = {states: (marks[states],) + tuple(marks[book.comes(states, a)] for a in book.letters)
-                  for states in every}
-        numbers = {mark: at for at, mark in enumerate(sorted(set(longer.values())))}
-        marks = {states: numbers[longer[states]] for states in every}
-    return marks
 
 
 def tries():

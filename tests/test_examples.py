@@ -4,10 +4,13 @@ import doctest
 import pathlib
 import unittest
 
+from fewheld.ahead import stairs, windows
 from fewheld.alike import are_alike, cover_width, covers, missing, parting, rooms
 from fewheld.books import Book
 from fewheld.counts import at_once, degree, greatest, many_readings, spread
 from fewheld.errors import InvalidLetters, InvalidSet
+from fewheld.families import choices, exhausted_in, held_width, needed, struck
+from fewheld.following import least_by_row, least_shown
 from fewheld.readers import ListRule, harmless_widths, lost_row, walk
 from fewheld.rows import number_of, row_at, rows
 from tests.helpers import Checks
@@ -25,6 +28,12 @@ def wide():
     """The book that the document calls wide."""
     return Book("ab", 6, [0, 1], [5], [(0, "a", 2), (1, "a", 3), (1, "a", 4), (2, "a", 5), (2, "b", 5), (3, "a", 5),
                                        (4, "a", 5)])
+
+
+def none():
+    """The book that the document calls none."""
+    return Book("ab", 6, [0], [3, 4, 5], [(0, "a", 1), (0, "a", 2), (0, "a", 3), (0, "b", 1), (0, "b", 2),
+                                          (0, "b", 4), (1, "a", 5), (2, "b", 5), (3, "a", 5), (4, "b", 5)])
 
 
 class Examples(Checks):
@@ -77,6 +86,23 @@ class Examples(Checks):
         self.assertEqual(repr(walk(wide(), ListRule(order, 2))),
                          "[('', (0, 1), (0, 1)), ('a', (2, 3, 4), (3, 4)), ('b', (), ()), ('aa', (5,), (5,)), "
                          "('ab', (5,), ())]")
+
+    def test_budgets(self):
+        book = five()
+        self.assertEqual(repr([cover_width(book), held_width(book), struck(book, 1), exhausted_in(book, 1)]),
+                         "[(1, ''), 2, [(1, (0,), 'a'), (1, (1,), 'b')], 1]")
+
+    def test_choices(self):
+        book = none()
+        self.assertEqual(repr([held_width(book), choices(book, 2, [0], "a"), needed(book, 2, [0], "b")]),
+                         "[2, [(2, 3)], (1, 4)]")
+
+    def test_letters_ahead(self):
+        self.assertEqual(repr([windows("ab", 1), stairs(five(), 1)]), "[['.', 'a', 'b'], [2, 1]]")
+
+    def test_following(self):
+        shown = Book("ab", 4, [0], [3], [(0, "a", 1), (0, "a", 2), (1, "a", 3), (2, "b", 3)])
+        self.assertEqual(repr([least_shown(shown, shown), least_by_row(shown, shown)]), "[1, 2]")
 
     def test_readme(self):
         tried = doctest.testfile(str(README), module_relative=False, optionflags=doctest.IGNORE_EXCEPTION_DETAIL)

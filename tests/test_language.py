@@ -32,6 +32,17 @@ INTERFACE = {
     "counts": "many_readings(book,row) spread(book,length) doubling(book) degree(book) chain(book,rises) "
               "is_doubling(book,value) is_chain(book,value) greatest(book) at_once(book) twice_read(book) "
               "same_numbers(one,other)",
+    "families": "cost(book,some,prices) family(book,budget,prices) is_enough(book,budget,prices) "
+                "least_budget(book,prices) held_width(book) first_choices(book,budget,prices) "
+                "choices(book,budget,some,letter,prices) needed(book,budget,some,letter,prices) "
+                "plan_for(book,budget,prices) struck(book,budget,prices) exhausted_in(book,budget,prices) "
+                "is_family(book,budget,value,prices)",
+    "ahead": "windows(letters,d) following(letters,d,window) ahead_family(book,k,d) is_enough_ahead(book,k,d) "
+             "least_ahead(book,d) stairs(book,d) choices_ahead(book,k,d,some,letter,window) "
+             "first_choices_ahead(book,k,d,window)",
+    "following": "shown_family(one,other,k) row_family(one,other,k) is_enough_shown(one,other,k) "
+                 "is_enough_by_row(one,other,k) least_shown(one,other) least_by_row(one,other) "
+                 "followed(one,other,k,row,run)",
     "readers": "walk(book,rule) lost_row(book,rule) most_held(book,rule) harmless_widths(book,order) "
                "lost_alone(book,one,other)",
 }

@@ -4,10 +4,13 @@ import random
 import time
 import unittest
 
+from fewheld.ahead import ahead_family, stairs
 from fewheld.alike import (Likeness, books_missing, books_parting, cover_width, covers, fewest, missing, parting, rooms)
 from fewheld.books import Book
 from fewheld.counts import (at_once, chain, degree, doubling, greatest, is_chain, is_doubling, many_readings,
                             same_numbers, spread, twice_read)
+from fewheld.families import exhausted_in, family, least_budget, plan_for, struck
+from fewheld.following import least_by_row, least_shown, row_family, shown_family
 from fewheld.readers import ListRule, harmless_widths, lost_alone, lost_row, most_held, walk
 from tests.helpers import full_book, random_plan
 
@@ -74,6 +77,30 @@ class Speed(unittest.TestCase):
                 if one.letters == other.letters:
                     for call in [books_parting, books_missing, same_numbers]:
                         self.check_quick(call, one, other)
+
+    def test_families(self):
+        for book in heavy_books():
+            for prices in [None, [3, 50, 100, 7, 11, 13, 99]]:
+                self.check_quick(least_budget, book, prices)
+                for budget in [1, 3, 70, 200]:
+                    for call in [family, struck, exhausted_in]:
+                        self.check_quick(call, book, budget, prices)
+                self.check_quick(plan_for, book, 1000, prices)
+
+    def test_letters_ahead(self):
+        for book in heavy_books():
+            self.check_quick(stairs, book, 3)
+            self.check_quick(ahead_family, book, 4, 3)
+
+    def test_followed_books(self):
+        books = heavy_books()
+        for one in books:
+            for other in books:
+                if one.letters == other.letters:
+                    for call in [least_shown, least_by_row]:
+                        self.check_quick(call, one, other)
+                    for call in [shown_family, row_family]:
+                        self.check_quick(call, one, other, 3)
 
     def test_rules(self):
         for book in heavy_books():
