@@ -13,7 +13,12 @@ def is_list(value):
     return isinstance(value, (list, tuple))
 
 
+def is_count(value):
+    """Whether the value is an integer that is at least 0."""
+    return is_integer(value) and value >= 0
+
+
 def check_count(value):
     """Raise InvalidCount unless the value is an integer that is at least 0."""
-    if not is_integer(value) or value < 0:
+    if not is_count(value):
         raise InvalidCount(value)

@@ -133,6 +133,32 @@ def letters_alike(book, budget, prices=None, most=40):
     return next((many for many in range(most) if not can_stay(book.starts, many)), None)
 
 
+def plan_by_hand(book, budget, prices=None):
+    """The begin and the table of the plan of the budget."""
+    left, _ = struck_by_hand(book, budget, prices)
+    begin = alike_parts(book, book.starts, left)[0]
+    table = {}
+    todo = [begin]
+    while todo:
+        states = todo.pop()
+        for letter in book.letters:
+            if (states, letter) not in table:
+                table[(states, letter)] = alike_parts(book, come_by_hand(book, states, letter), left)[0]
+                todo.append(table[(states, letter)])
+    return begin, table
+
+
+def is_within_by_hand(book, one, other):
+    """Whether the other set reads all that the one reads: it is alike to both together."""
+    marks = marks_of(book)
+    return marks[tuple(sorted({*one, *other}))] == marks[tuple(sorted(other))]
+
+
+def is_enough_by_hand(book, k):
+    """Whether k held states are enough."""
+    return bool(alike_parts(book, book.starts, struck_by_hand(book, k)[0]))
+
+
 def chain_book(size):
     """A book in which the states lead up, by one letter each to one state, by the other one to two."""
     steps = [(p, "a", p + 1) for p in range(size - 1)] + [(p, "b", q) for p in range(size - 2) for q in (p + 1, p + 2)]
@@ -168,6 +194,34 @@ HARD = [
     Book("ab", 5, [0, 1, 2, 3, 4], [0, 1, 3], [
         (0, "a", 4), (0, "b", 2), (1, "a", 0), (1, "a", 2), (1, "a", 4), (2, "b", 1), (2, "b", 2), (3, "a", 0),
         (3, "a", 1), (3, "a", 2), (3, "b", 3), (3, "b", 4), (4, "a", 1), (4, "a", 3), (4, "b", 0)]),
+]
+
+
+# For each of these fewer held states are enough if one to five things are put
+# in that fit: steps alone, or states as starts and steps.
+TORN = [
+    Book("a", 4, [0, 1, 2, 3], [1, 2, 3], [(0, "a", 2), (2, "a", 0), (2, "a", 1)]),
+    Book("ab", 4, [1, 3], [0, 2, 3], [(1, "a", 3), (2, "a", 3)]),
+    Book("a", 5, [1, 3, 4], [0, 2, 3], [(0, "a", 3), (1, "a", 2), (4, "a", 1)]),
+    Book("a", 3, [0], [1, 2], [(0, "a", 0), (0, "a", 1), (2, "a", 0), (2, "a", 1)]),
+    Book("a", 5, [0, 4], [2], [(0, "a", 2), (1, "a", 0), (1, "a", 2), (1, "a", 3), (1, "a", 4), (3, "a", 2),
+                               (4, "a", 3), (4, "a", 4)]),
+    Book("a", 4, [1, 2, 3], [0, 1, 2], [(0, "a", 2), (0, "a", 3), (3, "a", 0)]),
+    Book("a", 4, [0, 1, 3], [2, 3], [(0, "a", 1), (1, "a", 0), (1, "a", 3), (2, "a", 1), (3, "a", 0)]),
+    Book("ab", 3, [0], [0, 1], [(0, "b", 0), (0, "b", 2), (1, "a", 0), (1, "a", 2), (1, "b", 0), (1, "b", 2),
+                                (2, "a", 1), (2, "b", 0)]),
+    Book("ab", 3, [0, 1], [0, 1, 2], [(0, "a", 0), (0, "a", 1), (1, "b", 0), (2, "a", 0), (2, "a", 1), (2, "b", 0)]),
+    Book("ab", 4, [0], [0, 1, 2], [(0, "a", 2), (0, "b", 0), (0, "b", 3), (1, "a", 0), (1, "a", 3), (1, "b", 0),
+                                   (1, "b", 2), (2, "a", 0), (2, "a", 2), (3, "a", 0), (3, "a", 3)]),
+    Book("ab", 5, [0, 1, 4], [0, 1, 2, 4], [
+        (0, "b", 1), (1, "a", 0), (1, "a", 4), (2, "a", 0), (2, "a", 2), (2, "a", 3), (3, "b", 2), (3, "b", 4),
+        (4, "a", 2), (4, "b", 4)]),
+    Book("ab", 5, [1, 2, 3, 4], [1, 3], [
+        (0, "a", 1), (0, "b", 2), (0, "b", 3), (0, "b", 4), (1, "a", 2), (1, "a", 3), (1, "a", 4), (2, "a", 0),
+        (2, "b", 0), (2, "b", 3), (2, "b", 4), (4, "a", 1), (4, "b", 2)]),
+    Book("ab", 5, [3], [0, 1, 2, 3], [
+        (0, "a", 0), (0, "a", 4), (0, "b", 4), (1, "a", 3), (1, "a", 4), (1, "b", 2), (1, "b", 3), (2, "a", 4),
+        (3, "a", 0), (3, "a", 2), (3, "b", 0), (3, "b", 3), (4, "a", 4), (4, "b", 0), (4, "b", 4)]),
 ]
 
 

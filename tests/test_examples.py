@@ -1,4 +1,4 @@
-"""The examples of the document, and of the README, that are due so far."""
+"""The examples of the document, and of the README."""
 
 import doctest
 import pathlib
@@ -8,11 +8,15 @@ from fewheld.ahead import stairs, windows
 from fewheld.alike import are_alike, cover_width, covers, missing, parting, rooms
 from fewheld.books import Book
 from fewheld.counts import at_once, degree, greatest, many_readings, spread
+from fewheld.desk import Desk
 from fewheld.errors import InvalidLetters, InvalidSet
 from fewheld.families import choices, exhausted_in, held_width, needed, struck
 from fewheld.following import least_by_row, least_shown
+from fewheld.judge import is_paper
+from fewheld.mending import first_order, fitting, mend, order_for_one, plain_part, put_in
 from fewheld.readers import ListRule, harmless_widths, lost_row, walk
 from fewheld.rows import number_of, row_at, rows
+from fewheld.texts import book_text
 from tests.helpers import Checks
 
 README = pathlib.Path(__file__).parent.parent / "README.md"
@@ -94,8 +98,9 @@ class Examples(Checks):
 
     def test_choices(self):
         book = none()
-        self.assertEqual(repr([held_width(book), choices(book, 2, [0], "a"), needed(book, 2, [0], "b")]),
-                         "[2, [(2, 3)], (1, 4)]")
+        self.assertEqual(repr([held_width(book), choices(book, 2, [0], "a"), needed(book, 2, [0], "b"),
+                               first_order(book, 2)]),
+                         "[2, [(2, 3)], (1, 4), None]")
 
     def test_letters_ahead(self):
         self.assertEqual(repr([windows("ab", 1), stairs(five(), 1)]), "[['.', 'a', 'b'], [2, 1]]")
@@ -103,6 +108,34 @@ class Examples(Checks):
     def test_following(self):
         shown = Book("ab", 4, [0], [3], [(0, "a", 1), (0, "a", 2), (1, "a", 3), (2, "b", 3)])
         self.assertEqual(repr([least_shown(shown, shown), least_by_row(shown, shown)]), "[1, 2]")
+
+    def test_mends(self):
+        book = five()
+        self.assertEqual(repr([fitting(book), mend(book, 1)]),
+                         "[[(0, 'a', 4), (0, 'b', 2), (0, 'b', 3), (1, 'a', 2), (1, 'a', 3), (1, 'b', 4)], "
+                         "[(1, 'b', 4)]]")
+        mended = put_in(five(), [(1, "b", 4)])
+        self.assertEqual(repr([plain_part(mended), order_for_one(mended)]),
+                         "[Book('ab', 6, (1,), (5,), [(1, 'a', 4), (1, 'b', 4), (4, 'a', 5), (4, 'b', 5)]), "
+                         "(1, 4, 2, 3, 5, 0)]")
+
+    def test_texts(self):
+        self.assertEqual(repr(book_text(Book("ab", 2, [0], [], [(0, "a", 1)]))),
+                         "'letters ab\\nstates 2\\nstarts 0\\nends\\nstep 0 a 1\\n'")
+
+    def test_papers(self):
+        book = five()
+        self.assertEqual(repr([is_paper(("exhausted", book, 1), [((0,), "a"), ((1,), "b")]),
+                               is_paper(("exhausted", book, 1), [((0,), "b"), ((1,), "b")])]), "[True, False]")
+
+    def test_desk(self):
+        desk = Desk()
+        done = desk.do_all("make s ab 4", "start s 0", "end s 3", "step s 0 a 1", "step s 0 a 2", "step s 1 a 3",
+                           "step s 2 b 3")
+        self.assertEqual(done, ["done"] * 7)
+        self.assertEqual(repr([desk.do("width s"), desk.do("follow s s"), desk.do("enough s 1"), desk.do("ahead s 1"),
+                               desk.do("growth s")]),
+                         "['2 2', '1 2', 'no in 1', '1', 'at most 1']")
 
     def test_readme(self):
         tried = doctest.testfile(str(README), module_relative=False, optionflags=doctest.IGNORE_EXCEPTION_DETAIL)

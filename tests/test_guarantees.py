@@ -5,14 +5,19 @@ import random
 import unittest
 
 from fewheld.ahead import is_enough_ahead
-from fewheld.alike import cover_width
+from fewheld.alike import are_alike, books_alike, cover_width, rooms
 from fewheld.books import Book
-from fewheld.counts import at_once, twice_read
+from fewheld.counts import at_once, degree, greatest, twice_read
+from fewheld.desk import Desk
 from fewheld.families import (exhausted_in, family, first_choices, held_width, is_enough, least_budget, plan_for)
 from fewheld.following import followed, least_by_row, least_shown
+from fewheld.judge import is_paper, paper_of
+from fewheld.mending import (first_order, fitting, is_plain, mend, opened, order_for_one, plain_part, put_in,
+                             right_orders)
 from fewheld.readers import ListRule, Plan, Reader, lost_row, walk
+from fewheld.texts import book_text, read_book, read_rule, rule_text
 from tests.helpers import Checks, random_book, random_rows, sample_books
-from tests.slow import HARD, lively_books, marks_of, parts_of, price_of, random_prices, sets_of, tried_books
+from tests.slow import HARD, TORN, lively_books, marks_of, parts_of, price_of, random_prices, sets_of, tried_books
 
 
 def drawn_books(many, seed, most=6):
@@ -94,8 +99,20 @@ class One(Checks):
             if held_width(book) == 1:
                 orders = itertools.permutations(range(book.size))
                 self.assertTrue(any(lost_row(book, ListRule(order, 1)) is None for order in orders))
+                self.assertIn(order_for_one(book), list(right_orders(book, 1)))
+                self.assertIsNone(lost_row(book, ListRule(first_order(book, 1), 1)))
                 many += 1
         self.assertGreater(many, 20)
+
+    def test_plain_parts_are_held_by_one(self):
+        many = 0
+        for book in drawn_books(120, 9) + tried_books():
+            if held_width(book) <= 1:
+                part = plain_part(book)
+                self.assertTrue(is_plain(part) and books_alike(part, book))
+                self.assertEqual(held_width(part), held_width(book))
+                many += 1
+        self.assertGreater(many, 60)
 
 
 class UniqueReadings(Checks):
@@ -130,6 +147,45 @@ class Following(Checks):
                 self.assertTrue(shown is None or shown <= by_row <= second.size)
 
 
+class Opened(Checks):
+    def test_putting_in_what_fits(self):
+        source = random.Random(27)
+        fallen = 0
+        for book in tried_books() + TORN + drawn_books(100, 7):
+            fits = fitting(book)
+            for _ in range(3):
+                mended = put_in(book, source.sample(fits, source.randint(0, len(fits))))
+                # What each state reads is the same; so all sets are parted as they were.
+                marks, mended_marks = marks_of(book), marks_of(mended)
+                self.assertEqual(len(set(zip(marks.values(), mended_marks.values()))), len(set(marks.values())))
+                self.assertEqual(rooms(mended), rooms(book))
+                if book.size < 4:
+                    together = book | mended
+                    for state in range(book.size):
+                        self.assertTrue(are_alike(together, [state], [state + book.size]))
+                self.assertLessEqual(held_width(mended), held_width(book))
+                fallen += held_width(mended) < held_width(book)
+        self.assertGreater(fallen, 10)
+
+    def test_held_width_1_exactly_if_the_cover_width_is_1(self):
+        kinds = set()
+        for book in tried_books() + TORN + drawn_books(300, 8):
+            book = opened(book)
+            self.assertIs(held_width(book) == 1, cover_width(book)[0] == 1)
+            kinds.add((held_width(book) == 1, held_width(book) > 1))
+        self.assertEqual(len(kinds), 3)
+
+    def test_mended_books(self):
+        for book in TORN:
+            for k in range(1, held_width(book)):
+                left = mend(book, k)
+                if left is not None:
+                    mended = put_in(book, left)
+                    self.assertTrue(books_alike(mended, book))
+                    self.assertLessEqual(held_width(mended), k)
+                    self.assertIsNone(lost_row(mended, plan_for(mended, k)))
+
+
 class Together(Checks):
     def test_widths(self):
         for book in tried_books() + drawn_books(200, 6):
@@ -151,12 +207,35 @@ class Together(Checks):
             lambda book: plan_for(book, book.size).table(), lambda book: book.steps(), repr,
             lambda book: [Reader(book, plan_for(book, book.size)).held, len(book)],
             lambda book: followed(book, book, 7, "", (book.starts[0],)) if book.starts else None,
+            lambda book: [fitting(book), opened(book), mend(book, 1), plain_part(book), order_for_one(book)],
+            lambda book: paper_of(("exhausted", book, 1)), lambda book: paper_of(("alike", book, (), book.starts)),
+            book_text, lambda book: read_book(book_text(book)), lambda book: [degree(book), greatest(book)],
         ]
         asked = list(itertools.product(range(len(questions)), range(len(books))))
         first = {(question, at): questions[question](books[at]) for question, at in asked}
         source.shuffle(asked)
         for question, at in asked:
             self.assertEqual(questions[question](books[at]), first[(question, at)])
+
+    def test_claims_and_answers(self):
+        for book in tried_books() + TORN:
+            width = held_width(book)
+            order = tuple(range(book.size))
+            desk = Desk()
+            desk["book"] = book
+            self.assertEqual(desk.do("width book"), f"{width} {cover_width(book)[0]}")
+            for k in range(book.size + 1):
+                kind = "enough" if k >= width else "exhausted"
+                self.assertTrue(is_paper((kind, book, k), paper_of((kind, book, k))))
+                letters = exhausted_in(book, k)
+                self.assertEqual(desk.do(f"enough book {k}"), "yes" if letters is None else f"no in {letters}")
+                row = lost_row(book, ListRule(order, k))
+                self.assertEqual(paper_of(("loses", book, order, k)), row)
+                self.assertIs(paper_of(("harmless", book, order, k)) is None, row is not None)
+                told = desk.do(f"loses book {k} " + " ".join(str(state) for state in order))
+                self.assertEqual(told, "nothing" if row is None else row or "-")
+                rule = read_rule(rule_text(ListRule(order, k)))
+                self.assertEqual(lost_row(read_book(book_text(book)), rule), row)
 
     def test_rows_that_are_read(self):
         source = random.Random(22)

@@ -43,6 +43,11 @@ INTERFACE = {
     "following": "shown_family(one,other,k) row_family(one,other,k) is_enough_shown(one,other,k) "
                  "is_enough_by_row(one,other,k) least_shown(one,other) least_by_row(one,other) "
                  "followed(one,other,k,row,run)",
+    "mending": "fitting(book) opened(book) put_in(book,things) mend(book,k) plain_part(book) is_plain(book) "
+               "order_for_one(book) right_orders(book,width) first_order(book,width)",
+    "texts": "book_text(book) read_book(text) rule_text(rule) read_rule(text)",
+    "judge": "is_claim(value) paper_of(claim) is_paper(claim,value)",
+    "desk": "",
     "readers": "walk(book,rule) lost_row(book,rule) most_held(book,rule) harmless_widths(book,order) "
                "lost_alone(book,one,other)",
 }
@@ -57,6 +62,7 @@ CLASSES = {
     "Plan": ("readers", "begins holds begin table __init__ __eq__"),
     "Reader": ("readers", """book row held whole at_end rule set_rule missing copy trial tried_by __init__ __len__
         __iadd__ __isub__ __enter__ __exit__"""),
+    "Desk": ("desk", """do do_all attempt log names __init__ __getitem__ __setitem__ __len__ __contains__ __iter__"""),
 }
 # An interactive session, such as a doctest, leaves its last value in `_`.
 ALL_BUILTINS = set(dir(builtins)) - {"_"}

@@ -8,7 +8,7 @@ from fewheld.errors import NotEnough
 from fewheld.families import exhausted_in, family, held_width, is_enough, least_budget, plan_for, struck
 from fewheld.readers import Plan, Reader, lost_row, most_held, walk
 from tests.helpers import Checks, full_book, held_by_hand, ring
-from tests.slow import (FIVE, HARD, NONE, alike_parts, come_by_hand, letters_alike, lively_books, marks_of, price_of,
+from tests.slow import (FIVE, HARD, NONE, alike_parts, letters_alike, lively_books, marks_of, plan_by_hand, price_of,
                         random_prices, sets_of, struck_by_hand, tried_books)
 
 HUGE = 10 ** 25
@@ -22,21 +22,6 @@ def enough_cases():
             least = least_budget(book, prices)
             for budget in [least, least + 1, 2 * least, HUGE]:
                 yield book, budget, prices
-
-
-def plan_by_hand(book, budget, prices):
-    """The begin and the table of the plan of the budget."""
-    left, _ = struck_by_hand(book, budget, prices)
-    begin = alike_parts(book, book.starts, left)[0]
-    table = {}
-    todo = [begin]
-    while todo:
-        states = todo.pop()
-        for letter in book.letters:
-            if (states, letter) not in table:
-                table[(states, letter)] = alike_parts(book, come_by_hand(book, states, letter), left)[0]
-                todo.append(table[(states, letter)])
-    return begin, table
 
 
 class Plans(Checks):

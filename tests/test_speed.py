@@ -11,6 +11,8 @@ from fewheld.counts import (at_once, chain, degree, doubling, greatest, is_chain
                             same_numbers, spread, twice_read)
 from fewheld.families import exhausted_in, family, least_budget, plan_for, struck
 from fewheld.following import least_by_row, least_shown, row_family, shown_family
+from fewheld.judge import is_paper, paper_of
+from fewheld.mending import fitting, mend, order_for_one, plain_part, right_orders
 from fewheld.readers import ListRule, harmless_widths, lost_alone, lost_row, most_held, walk
 from tests.helpers import full_book, random_plan
 
@@ -101,6 +103,29 @@ class Speed(unittest.TestCase):
                         self.check_quick(call, one, other)
                     for call in [shown_family, row_family]:
                         self.check_quick(call, one, other, 3)
+
+    def test_mends(self):
+        for book in heavy_books():
+            for call in [fitting, plain_part, order_for_one]:
+                self.check_quick(call, book)
+            for k in [0, 1, 3, 7]:
+                self.check_quick(mend, book, k)
+
+    def test_orders(self):
+        for book in heavy_books():
+            steps = [(p, a, q) for p, a, q in book.steps() if p < 6 and q < 6]
+            less = Book(book.letters, 6, [p for p in book.starts if p < 6], [p for p in book.ends if p < 6], steps)
+            for width in range(7):
+                self.check_quick(lambda: list(right_orders(less, width)))
+
+    def test_papers(self):
+        order = tuple(ORDER)
+        for book in heavy_books():
+            for claim in [("alike", book, (0,), (1, 2)), ("enough", book, 7), ("exhausted", book, 2),
+                          ("harmless", book, order, 7), ("loses", book, order, 2), ("ahead", book, 7, 3),
+                          ("shown", book, book, 3), ("doubling", book), ("degree", book, 6), ("bounded", book, 1000)]:
+                paper = self.check_quick(paper_of, claim)
+                self.assertIs(self.check_quick(is_paper, claim, paper), paper is not None)
 
     def test_rules(self):
         for book in heavy_books():
