@@ -58,7 +58,7 @@ def plain_part(book):
     if not is_enough(book, 1):
         return None
     plan = plan_for(book, 1)
-    steps = [(held[0], letter, behind[0]) for (held, letter), behind in plan.table().items() if held and behind]
+    steps = [(held[0], letter, behind[0]) for (held, letter), behind in plan.table().items() if behind]
     return Book(book.letters, book.size, plan.begin, book.ends, steps)
 
 
@@ -114,12 +114,11 @@ def check_things(book, things):
 
 def with_things(book, things):
     """The book with these things put in."""
-    states = [thing for thing in things if is_state(book.size, thing)]
+    starts = [state for state in range(book.size) if state in book.starts or state in things]
     steps = {step: True for step in book.steps()}
     for thing in things:
         if not is_state(book.size, thing):
             steps[thing] = True
-    starts = [state for state in range(book.size) if state in book.starts or state in states]
     return Book(book.letters, book.size, starts, book.ends, list(steps))
 
 

@@ -86,7 +86,8 @@ def bounded_tallies(book, number):
     return [list(tally) for _, tally in found]
 
 
-# Each makes a paper, or None if the claim is not true.
+# Each makes a paper, or None if the claim is not true. A table has functions of
+# its own file alone, so some of them do no more than call another one.
 MAKERS = {
     "alike": class_number,
     "parted": parting_row,

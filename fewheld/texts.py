@@ -4,7 +4,7 @@ from fewheld.books import Book, check_book
 from fewheld.errors import InvalidRule, InvalidText
 from fewheld.readers import ListRule
 from fewheld.rows import is_letters
-from fewheld.states import ascending, is_order, is_set, is_step
+from fewheld.states import ascending, is_order, is_step
 from fewheld.words import is_number, is_size, number_in, numbers_in, spaced
 
 # The lines that each text of a book has: letters, states, starts, ends.
@@ -79,7 +79,7 @@ def is_set_told(size, words):
     if not all([is_number(word) for word in words]):
         return False
     states = numbers_in(words)
-    return is_set(size, states) and tuple(states) == ascending(size, states)
+    return tuple(states) == ascending(size, states)
 
 
 def is_step_line(letters, size, words):
